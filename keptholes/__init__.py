@@ -1,0 +1,1 @@
+"""What copies do to holes, and what they see."""

@@ -1,0 +1,25 @@
+"""What several modules need: checks of plain values, and the blocks of a row of cells."""
+
+from keptholes.errors import InvalidNumber
+
+
+def is_whole(value):
+    """Tell whether a value is a whole number."""
+    # For Python a Boolean is an integer, too.
+    return isinstance(value, int) and not isinstance(value, bool)
+
+
+def check_number(value, low, high=None):
+    """Raise InvalidNumber unless a value is a whole number from low to high (without an upper bound for None)."""
+    if not is_whole(value) or value < low or (high is not None and value > high):
+        raise InvalidNumber(value)
+
+
+def is_row(value, signs):
+    """Tell whether a value is a string in which only these characters occur."""
+    return isinstance(value, str) and all([sign in signs for sign in value])
+
+
+def blocks(length, size):
+    """Return the list of (begin, end) of the blocks of so many cells; the last one ends with them."""
+    return [(begin, min(begin + size, length)) for begin in range(0, length, size)]
