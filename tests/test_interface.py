@@ -3,9 +3,10 @@
 import inspect
 import unittest
 
-from keptholes import errors, files, steps
+from keptholes import compare, errors, files, histories, reasons, spreads, steps
 from keptholes.files import File
-from keptholes.steps import Full, Keep
+from keptholes.histories import History
+from keptholes.steps import Full, Keep, Script
 
 CLASSES = {
     errors: {
@@ -17,6 +18,18 @@ CLASSES = {
     files: {"File": ["cells=''"]},
     steps: {
         "Full": [], "Keep": ["size"], "Lean": ["size"], "Dig": ["size"], "Script": ["steps=None"],
+    },
+    histories: {"History": ["file", "writes=None"]},
+}
+FUNCTIONS = {
+    reasons: {"reasons": ["script", "cell"]},
+    compare: {
+        "alike": ["one", "other"], "parting": ["one", "other"], "never_more": ["one", "other"],
+        "more_file": ["one", "other"], "exchangeable": ["one", "other"], "needless": ["script"],
+        "keeps_holes": ["script"], "keeps_written": ["script"],
+    },
+    spreads: {
+        "spread": ["sizes", "cell"], "rounds_spread": ["one", "other", "rounds", "cell"], "settles": ["one", "other"],
     },
 }
 PLAYED = {"play": ["file"], "__eq__": None}
@@ -33,16 +46,25 @@ METHODS = {
         "without": ["k"], "play": ["file"], "traces": ["file"], "__len__": None, "__getitem__": None,
         "__eq__": None, "__iter__": None, "__add__": None, "__mul__": None,
     },
+    histories.History: {
+        "at": ["t"], "states": [], "part": ["first", "last"], "moments_of": ["content"], "copy": [],
+        "__len__": None, "__getitem__": None, "__eq__": None, "__iter__": None, "__iadd__": None,
+    },
 }
 PROPERTIES = {
     files.File: ["cells", "content", "room"], steps.Keep: ["size"], steps.Lean: ["size"], steps.Dig: ["size"],
-    steps.Script: ["period"],
+    steps.Script: ["period"], histories.History: ["file"],
 }
+
+
+def parameters(function):
+    """All parameters, as they are written."""
+    return [str(item) for item in inspect.signature(function).parameters.values()]
 
 
 def arguments(function):
     """The parameters but the method's own object, as they are written."""
-    return [str(item) for item in inspect.signature(function).parameters.values()][1:]
+    return parameters(function)[1:]
 
 
 class Interface(unittest.TestCase):
@@ -57,6 +79,14 @@ class Interface(unittest.TestCase):
             for name, told in classes.items():
                 if told or module is not errors:
                     self.assertEqual(arguments(getattr(module, name).__init__), told, name)
+
+    def test_each_function_is_defined_in_its_file(self):
+        for module, functions in FUNCTIONS.items():
+            for name, told in functions.items():
+                function = getattr(module, name)
+                self.assertTrue(inspect.isfunction(function))
+                self.assertEqual((function.__module__, function.__name__), (module.__name__, name))
+                self.assertEqual(parameters(function), told, name)
 
     def test_each_method_stands_in_the_class_itself(self):
         for kind, methods in METHODS.items():
@@ -73,7 +103,10 @@ class Interface(unittest.TestCase):
     def test_names_that_do_not_exist(self):
         for call in [
             lambda: File(cell=""), lambda: File("").cut(size=0), lambda: Keep(length=1), lambda: Full(size=1),
-            lambda: File("a").punched(0, 1, 1, 1), lambda: Keep(),
+            lambda: File("a").punched(0, 1, 1, 1), lambda: Keep(), lambda: History(),
+            lambda: History(File(), write=[]), lambda: History(File()).at(moment=0),
+            lambda: reasons.reasons(Script(), at=0), lambda: compare.alike(Script(), two=Script()),
+            lambda: spreads.settles(5), lambda: spreads.spread([], 0, 0),
         ]:
             with self.assertRaises(TypeError):
                 call()

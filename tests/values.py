@@ -4,6 +4,7 @@ import itertools
 
 from keptholes.errors import HoleError, InvalidNumber
 from keptholes.files import File
+from keptholes.histories import History
 from keptholes.steps import Dig, Full, Keep, Lean, Script
 
 LARGE = 10 ** 40 - 1
@@ -24,7 +25,7 @@ def strings():
 def containers():
     return [
         [], [None], [1], ["a"], ["a", "."], (), (1,), ("a",), (0, "a"), {}, {1: 2}, {"a": "."},
-        [File()], [Script()], (Keep(1),), (Full(), Full()), {0: Full()}, nested(50),
+        [File()], [Script()], [History(File())], (Keep(1),), (Full(), Full()), {0: Full()}, nested(50),
     ]
 
 
@@ -40,9 +41,13 @@ def scripts():
     return [Script(), Script([Full(), Keep(1)])]
 
 
+def histories():
+    return [History(File()), History(File("a.c"), [(0, "b"), (1, "0b")])]
+
+
 def others():
     """Values that are no number, string, file, step or script."""
-    return [None, *booleans(), *containers(), HoleError(), InvalidNumber(1)]
+    return [None, *booleans(), *containers(), *histories(), HoleError(), InvalidNumber(1)]
 
 
 def no_numbers():
@@ -79,8 +84,33 @@ def nested(depth):
 def rows(longest, cells=".0a"):
     """All rows of these cells up to a length."""
     for length in range(longest + 1):
-        for row in itertools.product(cells, repeat=length):
-            yield "".join(row)
+        yield from rows_of(length, cells)
+
+
+def rows_of(length, cells=".0a"):
+    """All rows of so many of these cells."""
+    for row in itertools.product(cells, repeat=length):
+        yield "".join(row)
+
+
+def divisors(number):
+    return [size for size in range(1, number + 1) if number % size == 0]
+
+
+def some_script(chance, sizes, longest):
+    """A script of these sizes with at most 3 steps Dig or Lean, as a source of chance has it."""
+    steps = []
+    narrow = 0
+    for _ in range(chance.randint(0, longest)):
+        kind = chance.choice([Full, Keep, Keep, Keep, Lean, Dig, Dig, Dig] if narrow < 3 else [Keep])
+        narrow += kind in (Lean, Dig)
+        steps.append(Full() if kind is Full else kind(chance.choice(sizes)))
+    return Script(steps)
+
+
+def some_row(chance, length):
+    """A row of so many cells few of which are written, as a source of chance has it."""
+    return "".join(chance.choices(".0a", weights=[8, 1, 1], k=length))
 
 
 def assert_raises_with(test, error, value, call, *args, **more):
