@@ -23,3 +23,14 @@ def is_row(value, signs):
 def blocks(length, size):
     """Return the list of (begin, end) of the blocks of so many cells; the last one ends with them."""
     return [(begin, min(begin + size, length)) for begin in range(0, length, size)]
+
+
+def reading_order(length, size, down):
+    """Return the list of (block, begin, end), from the first block on, or from the last one on if down is true."""
+    found = [(block, begin, end) for block, (begin, end) in enumerate(blocks(length, size))]
+    return found[::-1] if down else found
+
+
+def overwritten(row, begin, text):
+    """Return a row with this text instead of what it has from begin on."""
+    return row[:begin] + text + row[begin + len(text):]

@@ -1,7 +1,7 @@
 """Histories: files, and what was written to them."""
 
-from keptholes.basics import check_number, is_row, is_whole
-from keptholes.errors import InvalidContent, InvalidList, InvalidWrite
+from keptholes.basics import check_number, is_row, is_whole, overwritten
+from keptholes.errors import InvalidContent, InvalidHistory, InvalidList, InvalidWrite
 from keptholes.files import CELLS, HOLE, File, check_file
 
 
@@ -51,7 +51,7 @@ class History:
         content = self._file.content
         found = [content]
         for begin, text in self._writes:
-            content = content[:begin] + text + content[begin + len(text):]
+            content = overwritten(content, begin, text)
             found.append(content)
         return found
 
@@ -71,10 +71,21 @@ class History:
         return History(self._file, list(self._writes))
 
 
+def check_history(value):
+    """Raise InvalidHistory unless a value is a history."""
+    if not isinstance(value, History):
+        raise InvalidHistory(value)
+
+
 def check_write(value, file):
     """Raise InvalidWrite unless a value is a write that fits a file."""
-    if not _is_write(value) or value[0] + len(value[1]) > len(file):
+    if not is_fitting(value, file):
         raise InvalidWrite(value)
+
+
+def is_fitting(value, file):
+    """Tell whether a value is a write that fits a file."""
+    return _is_write(value) and value[0] + len(value[1]) <= len(file)
 
 
 def check_content(value, file):

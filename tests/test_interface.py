@@ -3,7 +3,7 @@
 import inspect
 import unittest
 
-from keptholes import compare, errors, files, histories, reasons, spreads, steps
+from keptholes import compare, copies, errors, files, histories, reasons, spreads, steps, stores, texts, torn
 from keptholes.files import File
 from keptholes.histories import History
 from keptholes.steps import Full, Keep, Script
@@ -20,6 +20,7 @@ CLASSES = {
         "Full": [], "Keep": ["size"], "Lean": ["size"], "Dig": ["size"], "Script": ["steps=None"],
     },
     histories: {"History": ["file", "writes=None"]},
+    stores: {"Store": ["file=None"]},
 }
 FUNCTIONS = {
     reasons: {"reasons": ["script", "cell"]},
@@ -30,6 +31,21 @@ FUNCTIONS = {
     },
     spreads: {
         "spread": ["sizes", "cell"], "rounds_spread": ["one", "other", "rounds", "cell"], "settles": ["one", "other"],
+    },
+    copies: {
+        "copy_moments": ["history", "size", "content", "*", "down=False"],
+        "late_block": ["history", "size", "content", "*", "down=False"],
+        "copy_count": ["history", "size", "*", "down=False"],
+        "copy_at": ["history", "size", "number", "*", "down=False"],
+        "copy_number": ["history", "size", "content", "*", "down=False"],
+        "sizes_for": ["history", "content", "most", "*", "down=False"],
+    },
+    torn: {
+        "torn_copy": ["history", "size", "first=0", "last=None", "*", "down=False"],
+        "holds": ["history", "size", "*", "down=False"], "windows": ["history", "size", "*", "down=False"],
+    },
+    texts: {
+        "write_script": ["script"], "read_script": ["text"], "write_history": ["history"], "read_history": ["text"],
     },
 }
 PLAYED = {"play": ["file"], "__eq__": None}
@@ -50,16 +66,25 @@ METHODS = {
         "at": ["t"], "states": [], "part": ["first", "last"], "moments_of": ["content"], "copy": [],
         "__len__": None, "__getitem__": None, "__eq__": None, "__iter__": None, "__iadd__": None,
     },
+    stores.Store: {
+        "write": ["begin", "text"], "punch": ["begin", "end", "size"], "cut": ["length"], "grow": ["length"],
+        "run": ["script"], "back": [], "copier": ["size", "*", "down=False"],
+    },
+    stores.Copier: {"read": [], "copied": [], "close": [], "__enter__": None, "__exit__": None},
 }
 PROPERTIES = {
     files.File: ["cells", "content", "room"], steps.Keep: ["size"], steps.Lean: ["size"], steps.Dig: ["size"],
-    steps.Script: ["period"], histories.History: ["file"],
+    steps.Script: ["period"], histories.History: ["file"], stores.Store: ["file", "made"],
+    stores.Copier: ["taken", "ended", "history"],
 }
 
 
 def parameters(function):
     """All parameters, as they are written."""
-    return [str(item) for item in inspect.signature(function).parameters.values()]
+    items = list(inspect.signature(function).parameters.values())
+    told = [str(item) for item in items]
+    by_name = [k for k, item in enumerate(items) if item.kind == item.KEYWORD_ONLY]
+    return [*told[:by_name[0]], "*", *told[by_name[0]:]] if by_name else told
 
 
 def arguments(function):
@@ -73,6 +98,7 @@ class Interface(unittest.TestCase):
             for name in classes:
                 self.assertEqual(getattr(module, name).__module__, module.__name__)
         self.assertEqual(steps.Step.__module__, "keptholes.steps")
+        self.assertEqual(stores.Copier.__module__, "keptholes.stores")
 
     def test_what_each_class_is_made_with(self):
         for module, classes in CLASSES.items():
@@ -106,7 +132,11 @@ class Interface(unittest.TestCase):
             lambda: File("a").punched(0, 1, 1, 1), lambda: Keep(), lambda: History(),
             lambda: History(File(), write=[]), lambda: History(File()).at(moment=0),
             lambda: reasons.reasons(Script(), at=0), lambda: compare.alike(Script(), two=Script()),
-            lambda: spreads.settles(5), lambda: spreads.spread([], 0, 0),
+            lambda: spreads.settles(5), lambda: spreads.spread([], 0, 0), lambda: stores.Store(cells=""),
+            lambda: copies.copy_count(History(File()), 1, up=True),
+            lambda: copies.sizes_for(History(File()), "", size=1),
+            lambda: torn.holds(History(File()), 1, first=0), lambda: torn.torn_copy(History(File()), 1, 0, 0, True),
+            lambda: stores.Store().copier(1, True), lambda: stores.Store().cut(size=0), lambda: texts.read_script(),
         ]:
             with self.assertRaises(TypeError):
                 call()

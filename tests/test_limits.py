@@ -7,12 +7,16 @@ import unittest
 from keptholes.compare import (
     alike, exchangeable, keeps_holes, keeps_written, more_file, needless, never_more, parting,
 )
-from keptholes.errors import InvalidList, InvalidScript, InvalidWrite
+from keptholes.copies import copy_at, copy_count, copy_moments, copy_number, late_block, sizes_for
+from keptholes.errors import InvalidContent, InvalidList, InvalidNumber, InvalidScript, InvalidText, InvalidWrite
 from keptholes.files import File
 from keptholes.histories import History
 from keptholes.reasons import reasons
 from keptholes.spreads import rounds_spread, settles, spread
 from keptholes.steps import Dig, Full, Keep, Lean, Script
+from keptholes.stores import Store
+from keptholes.texts import read_history, read_script, write_history, write_script
+from keptholes.torn import holds, torn_copy, windows
 from tests.values import LARGE, assert_raises_with
 
 MINUTE = 60
@@ -28,12 +32,28 @@ SCRIPTS = [
     Script([*[Full()] * 8, Dig(12), Dig(8), Keep(6), Dig(6)]), Script([*[Full()] * 11, Lean(24)]), Script(),
 ]
 ROWS = ["." * 300, "0" * 300, "a" * 300, "a." * 150, ".0" * 150, "a" + "." * 298 + "0"]
+BOTH = [False, True]
+
+
+def long_histories():
+    """Histories of 300 cells and forty writes: with few copies, with many, with torn ones early, late and nowhere."""
+    chance = random.Random(3)
+    begins = [chance.randrange(300) for _ in range(40)]
+    told = [
+        [(0, "0" * 300)] * 40, [(0, sign) for sign in "ab" * 20], [(7 * k, "a") for k in range(40)],
+        [(299 - 7 * k, "a") for k in range(40)], [(5 * k, "ab") for k in range(40)],
+        [(0, first + second) for first in "ab" for second in "abcdefghijklmnopqrst"],
+        [(0, (first + second) * 150) for first in "ab" for second in "abcdefghijklmnopqrst"],
+        [(begin, "".join(chance.choices("0az", k=chance.randint(1, 300 - begin)))) for begin in begins],
+        [(0, "z"), (0, "0"), *[(299 - 7 * k, "a") for k in range(38)]],
+    ]
+    return [History(File("." * 300), writes) for writes in told]
 
 
 class Limits(unittest.TestCase):
-    def in_time(self, call, *args):
+    def in_time(self, call, *args, **more):
         begin = time.monotonic()
-        told = call(*args)
+        told = call(*args, **more)
         self.assertLess(time.monotonic() - begin, MINUTE)
         return told
 
@@ -114,3 +134,70 @@ class Limits(unittest.TestCase):
                 self.assertEqual(self.in_time(history.part, t, 40).states(), states[t:])
             copy = self.in_time(history.copy)
             self.assertTrue(self.in_time(history.__eq__, copy))
+
+    def each(self):
+        for history in long_histories():
+            for size in [5, 299, 300, LARGE]:
+                for down in BOTH:
+                    yield history, size, down
+
+    def test_copies(self):
+        for history, size, down in self.each():
+            count = self.in_time(copy_count, history, size, down=down)
+            for number in [0, count // 2, count - 1]:
+                content = self.in_time(copy_at, history, size, number, down=down)
+                self.assertEqual(self.in_time(copy_number, history, size, content, down=down), number)
+                self.assertEqual(len(self.in_time(copy_moments, history, size, content, down=down)), -(-300 // size))
+                self.assertIsNone(self.in_time(late_block, history, size, content, down=down))
+                told = self.in_time(sizes_for, history, content, 300, down=down)
+                self.assertIs(size in told, size <= 300)
+            self.assertIsNone(self.in_time(copy_number, history, size, "y" * 300, down=down))
+            self.assertEqual(late_block(history, size, "y" * 300, down=down)[1], 0)
+
+    def test_torn_copies(self):
+        for history, size, down in self.each():
+            told = self.in_time(torn_copy, history, size, down=down)
+            found = self.in_time(holds, history, size, down=down)
+            self.assertIs(told is None, found == [])
+            self.assertEqual(len(self.in_time(windows, history, size, down=down)), 1 if found is None else len(found))
+            self.assertIsNone(self.in_time(torn_copy, history, size, 40, 40, down=down))
+
+    def test_stores(self):
+        for down in BOTH:
+            store = Store(File("a." * 150))
+            copier, begun = store.copier(5, down=down), time.monotonic()
+            for k in range(20):
+                store.write(15 * k, "b" * 15)
+                copier.read()
+                store.punch(k, 300 - k, 7)
+                store.run(Script([Keep(LARGE), Lean(2)] * 30))
+                copier.read()
+            self.assertEqual((store.made, len(copier.taken), len(copier.history)), (60, 40, 40))
+            while not copier.ended:
+                copier.read()
+            told = self.in_time(copy_moments, copier.history, 5, copier.copied(), down=down)
+            self.assertEqual(len(told), 60)
+            for _ in range(60):
+                self.assertIs(store.back(), True)
+            self.assertEqual(store.file, File("a." * 150))
+            self.assertLess(time.monotonic() - begun, MINUTE)
+
+    def test_texts(self):
+        script = Script([Keep(LARGE - k) for k in range(60)])
+        self.assertEqual(self.in_time(read_script, self.in_time(write_script, script)), script)
+        for history in long_histories():
+            self.assertEqual(self.in_time(read_history, self.in_time(write_history, history)), history)
+        for text in ["\n" * 4000, "full\n" * 800, "keep " + "0" * 3995, "a" * 4000, " " * 4000, "dig 4\n" * 666]:
+            begin = time.monotonic()
+            for call in [read_script, read_history]:
+                with self.assertRaises(InvalidText):
+                    call(text + ",")
+            self.assertLess(time.monotonic() - begin, MINUTE)
+
+    def test_wrong_numbers_of_forty_figures(self):
+        for history, size, down in self.each():
+            for value in [-LARGE, LARGE]:
+                assert_raises_with(self, InvalidNumber, value, copy_at, history, size, value, down=down)
+                assert_raises_with(self, InvalidNumber, value, torn_copy, history, size, value, down=down)
+                assert_raises_with(self, InvalidNumber, value, sizes_for, history, "0" * 300, value, down=down)
+            assert_raises_with(self, InvalidContent, "0" * 299, copy_number, history, size, "0" * 299, down=down)

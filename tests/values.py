@@ -2,10 +2,11 @@
 
 import itertools
 
-from keptholes.errors import HoleError, InvalidNumber
+from keptholes.errors import Busy, HoleError, InvalidNumber
 from keptholes.files import File
 from keptholes.histories import History
 from keptholes.steps import Dig, Full, Keep, Lean, Script
+from keptholes.stores import Store
 
 LARGE = 10 ** 40 - 1
 
@@ -45,33 +46,53 @@ def histories():
     return [History(File()), History(File("a.c"), [(0, "b"), (1, "0b")])]
 
 
+def stores():
+    closed, reading = Store(File("a.")), Store(File("b0c"))
+    closed.copier(1).close()
+    reading.copier(2)
+    return [Store(), closed, reading]
+
+
+def copiers():
+    return [Store().copier(1), Store(File("a.c")).copier(2, down=True)]
+
+
 def others():
-    """Values that are no number, string, file, step or script."""
-    return [None, *booleans(), *containers(), *histories(), HoleError(), InvalidNumber(1)]
+    return [None, *booleans(), *containers(), *stores(), *copiers(), HoleError(), InvalidNumber(1), Busy()]
+
+
+def all_but(left_out):
+    """Values of all kinds but one."""
+    kinds = [others, numbers, strings, files, steps, scripts, histories]
+    return [value for kind in kinds if kind is not left_out for value in kind()]
 
 
 def no_numbers():
-    return [*others(), *strings(), *files(), *steps(), *scripts()]
+    return all_but(numbers)
 
 
 def no_strings():
-    return [*others(), *numbers(), *files(), *steps(), *scripts()]
+    return all_but(strings)
 
 
 def no_files():
-    return [*others(), *numbers(), *strings(), *steps(), *scripts()]
+    return all_but(files)
 
 
 def no_steps():
-    return [*others(), *numbers(), *strings(), *files(), *scripts()]
+    return all_but(steps)
 
 
 def no_scripts():
-    return [*others(), *numbers(), *strings(), *files(), *steps()]
+    return all_but(scripts)
+
+
+def no_histories():
+    return all_but(histories)
 
 
 def anything():
-    return [*no_numbers(), *numbers()]
+    return all_but(None)
 
 
 def nested(depth):
@@ -111,6 +132,49 @@ def some_script(chance, sizes, longest):
 def some_row(chance, length):
     """A row of so many cells few of which are written, as a source of chance has it."""
     return "".join(chance.choices(".0a", weights=[8, 1, 1], k=length))
+
+
+def some_history(chance, longest, most, signs="0ab"):
+    """A history of at most so many cells and at most so many writes, as a source of chance has it."""
+    length = chance.randint(0, longest)
+    history = History(File("".join(chance.choices("." + signs, k=length))))
+    for _ in range(chance.randint(0, most) if length else 0):
+        history += some_write(chance, length, signs)
+    return history
+
+
+def some_write(chance, length, signs="0ab"):
+    """A write, mostly a short one, that fits so many cells."""
+    begin = chance.randrange(length)
+    text = chance.choices(signs, k=min(chance.choice([1, 1, 2, 3, length]), length - begin))
+    return begin, "".join(text)
+
+
+def lists_of_moments(count, first, last):
+    """All lists of so many moments from one to another, none before the one that stands ahead of it."""
+    for moments in itertools.combinations_with_replacement(range(first, last + 1), count):
+        yield list(moments)
+
+
+def reading_order(length, size, down):
+    """The (block, begin, end) of all blocks in the order of reading, cell by cell."""
+    numbers_of = sorted({cell // size for cell in range(length)}, reverse=down)
+    return [(k, k * size, max(c for c in range(length) if c // size == k) + 1) for k in numbers_of]
+
+
+def content_read(states, size, down, moments):
+    """The content of the copy that reads one block after another at these moments."""
+    told = {}
+    for (block, begin, end), t in zip(reading_order(len(states[0]), size, down), moments, strict=True):
+        told[block] = states[t][begin:end]
+    return "".join(told[block] for block in sorted(told))
+
+
+def all_copies(states, size, down, first, last):
+    """The pairs of a content and the moments, in the order of reading, of all copies from one moment to another."""
+    count = len(reading_order(len(states[0]), size, down))
+    for moments in lists_of_moments(count, first, last):
+        yield content_read(states, size, down, moments), moments
 
 
 def assert_raises_with(test, error, value, call, *args, **more):
